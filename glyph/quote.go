@@ -55,32 +55,43 @@ func Unquote(lit string) (string, int, api.Errno) {
 	if len(lit) > api.MaxText {
 		return "", 0, api.ErrLong
 	}
-	if !strings.HasPrefix(lit, `"`) {
+	says, size, e := Leading(lit)
+	switch {
+	case e != api.OK:
+		return "", size, e
+	case size < len(lit):
+		return "", size, api.ErrQuote
+	default:
+		return says, 0, api.OK
+	}
+}
+
+// Leading reads the quoted text that s begins with, however long it is, and whatever stands behind it: what it says, and how many bytes it has itself; with an error the place of what offends. The layers above read texts in which more than one stands.
+func Leading(s string) (string, int, api.Errno) {
+	if !strings.HasPrefix(s, `"`) {
 		return "", 0, api.ErrQuote
 	}
 	var says strings.Builder
 	next := 1 // the byte behind what has been read: an escape has more than one character
-	for at, r := range lit {
+	for at, r := range s {
 		switch {
 		case at < next:
-		case r == '"' && at+1 < len(lit):
-			return "", at + 1, api.ErrQuote
 		case r == '"':
-			return says.String(), 0, api.OK
+			return says.String(), at + 1, api.OK
 		case r == '\\':
-			said, size := escape(lit[at:])
+			said, size := escape(s[at:])
 			if size == 0 {
 				return "", at, api.ErrEscape
 			}
 			says.WriteString(said)
 			next = at + size
-		case isControl(r), looseAt(lit, at, r):
+		case isControl(r), looseAt(s, at, r):
 			return "", at, api.ErrRune
 		default:
 			says.WriteRune(r)
 		}
 	}
-	return "", len(lit), api.ErrQuote
+	return "", len(s), api.ErrQuote
 }
 
 // escape reads the escape that the rest of a text begins with: the bytes that it says, and how many it has itself, 0 if it is none.

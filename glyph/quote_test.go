@@ -220,6 +220,33 @@ func TestP108LongTexts(t *testing.T) {
 	holdUnquote(t, `"\q`+inner, unquoted{e: api.ErrLong})
 }
 
+// TestP108Leading holds what the layers above read quoted texts by: it goes no farther than the closing quote, and has no limit of its own.
+func TestP108Leading(t *testing.T) {
+	long := `"` + strings.Repeat("é", api.MaxText) + `"`
+	for _, c := range []struct {
+		text, says string
+		size       int
+		e          api.Errno
+	}{
+		{`""`, "", 2, api.OK},
+		{`"é\x41" b`, "éA", 8, api.OK},
+		{`"a""b"`, "a", 3, api.OK},
+		{`"a"` + "\xFF", "a", 3, api.OK},
+		{`"\""\q`, `"`, 4, api.OK},
+		{long + long, long[1 : len(long)-1], len(long), api.OK},
+		{"", "", 0, api.ErrQuote},
+		{`a"b"`, "", 0, api.ErrQuote},
+		{`"é`, "", 3, api.ErrQuote},
+		{`"é\q"b`, "", 3, api.ErrEscape},
+		{"\"é\xFF\"b", "", 3, api.ErrRune},
+	} {
+		says, size, e := glyph.Leading(c.text)
+		if says != c.says || size != c.size || e != c.e {
+			t.Errorf("Leading(%.40q): %.40q, %d, %d, not %.40q, %d, %d", c.text, says, size, e, c.says, c.size, c.e)
+		}
+	}
+}
+
 // unquoteByForms says, by forms of the library, what Unquote should tell of a text that is not too long.
 func unquoteByForms(lit string) unquoted {
 	if lit == "" || lit[0] != '"' {
