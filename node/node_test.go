@@ -781,6 +781,34 @@ func TestP1704Halt(t *testing.T) {
 		Book: []api.Notice{mistake(0, 4), mistake(1, 0), mistake(2, 0)}})
 }
 
+// Whoever has seen the first events of a life may ask for the others alone.
+func TestPastFrom(t *testing.T) {
+	x := open(t, 1, 0, 0, disk.New())
+	x.Poll()
+	all := x.Past()
+	for k := range len(all) + 1 {
+		got := x.PastFrom(k)
+		if !slices.Equal(got, all[k:]) {
+			t.Errorf("PastFrom(%d): %v, not %v", k, got, all[k:])
+		}
+		clear(got)
+		past(t, x, all...)
+	}
+	for _, k := range far() {
+		if got := x.PastFrom(k); (k < 0 && !slices.Equal(got, all)) || (k > 0 && len(got) != 0) {
+			t.Errorf("PastFrom(%d): %v", k, got)
+		}
+	}
+	x.Halt()
+	if got := x.PastFrom(1); !slices.Equal(got, all[1:]) {
+		t.Errorf("behind a halt: %v", got)
+	}
+	var none *node.Node
+	if got := none.PastFrom(0); len(got) != 0 {
+		t.Errorf("of nil: %v", got)
+	}
+}
+
 func TestP1704NewMemory(t *testing.T) {
 	d := disk.New()
 	x := open(t, 3, 1, 0, d)
