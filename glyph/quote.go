@@ -1,6 +1,7 @@
 package glyph
 
 import (
+	"iter"
 	"strconv"
 	"strings"
 	"unicode/utf8"
@@ -11,19 +12,44 @@ import (
 // maxDigits is how many digits a `\u{..}` may have.
 const maxDigits = 6
 
+// quote is what a quoted text begins and ends with.
+const quote = `"`
+
 // Quote tells a text's quoted text.
 func Quote(s string) (string, api.Errno) {
 	var out strings.Builder
-	out.WriteByte('"')
-	for c := range each(s) {
-		out.WriteString(piece(c, s[c.At:c.At+c.Size]))
+	for part := range parts(s) {
+		out.WriteString(part)
 		// Looked at here, so that a text of any length costs no more than MaxText.
-		if out.Len() >= api.MaxText {
+		if out.Len() > api.MaxText {
 			return "", api.ErrLong
 		}
 	}
-	out.WriteByte('"')
 	return out.String(), api.OK
+}
+
+// Quoted tells a text's quoted text, however long that is. The layers above write lines that have no limit.
+func Quoted(s string) string {
+	var out strings.Builder
+	for part := range parts(s) {
+		out.WriteString(part)
+	}
+	return out.String()
+}
+
+// parts goes through what the quoted text of s is made of: a quote, the piece of each character, a quote.
+func parts(s string) iter.Seq[string] {
+	return func(yield func(string) bool) {
+		if !yield(quote) {
+			return
+		}
+		for c := range each(s) {
+			if !yield(piece(c, s[c.At:c.At+c.Size])) {
+				return
+			}
+		}
+		yield(quote)
+	}
 }
 
 // piece tells what stands in a quoted text for the character c, whose bytes are own.
@@ -68,7 +94,7 @@ func Unquote(lit string) (string, int, api.Errno) {
 
 // Leading reads the quoted text that s begins with, however long it is, and whatever stands behind it: what it says, and how many bytes it has itself; with an error the place of what offends. The layers above read texts in which more than one stands.
 func Leading(s string) (string, int, api.Errno) {
-	if !strings.HasPrefix(s, `"`) {
+	if !strings.HasPrefix(s, quote) {
 		return "", 0, api.ErrQuote
 	}
 	var says strings.Builder

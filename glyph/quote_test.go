@@ -67,6 +67,28 @@ func TestP107QuoteExamples(t *testing.T) {
 	}
 }
 
+// TestP107Quoted: it has no limit, and is the same otherwise.
+func TestP107Quoted(t *testing.T) {
+	for _, text := range []string{"", "a", "é\n\xFF\u200b\"", "\xE2\x98\\", strings.Repeat("a", api.MaxText-2), strings.Repeat("\u0080", api.MaxText), strings.Repeat("\xFFα", 1<<20)} {
+		var want strings.Builder
+		want.WriteString(`"`)
+		for at := 0; at < len(text); {
+			_, size := utf8.DecodeRuneInString(text[at:])
+			want.WriteString(pieceOf(text[at : at+size]))
+			at += size
+		}
+		want.WriteString(`"`)
+		got := glyph.Quoted(text)
+		if got != want.String() {
+			t.Errorf("Quoted of %d bytes: %d bytes, not %d", len(text), len(got), want.Len())
+		}
+		lit, e := glyph.Quote(text)
+		if e == api.OK && lit != got || (e == api.OK) != (len(got) <= api.MaxText) {
+			t.Errorf("Quote of %d bytes: %d bytes, error %d; quoted they are %d", len(text), len(lit), e, len(got))
+		}
+	}
+}
+
 func TestP107QuoteOfLongTexts(t *testing.T) {
 	const room = api.MaxText - 2
 	for _, c := range []struct {

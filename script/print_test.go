@@ -7,6 +7,7 @@ import (
 	"testing"
 
 	"earshot/api"
+	"earshot/roster"
 	"earshot/script"
 )
 
@@ -177,5 +178,30 @@ func TestP2002NothingIsChanged(t *testing.T) {
 	room[0] = 'x'
 	if again, _ := script.Print(two(), ahead[:4]); again != text || !strings.HasSuffix(whole, "forge α \"abc\"\n") {
 		t.Errorf("Print: %q, then %q", text, again)
+	}
+}
+
+// TestP2002Lines: a step's line is told as Print writes it, and of any length.
+func TestP2002Lines(t *testing.T) {
+	r, _, _ := roster.Read("αβ")
+	for _, c := range said() {
+		if line := script.Line(r, c.step); line != c.line {
+			t.Errorf("Line(%v): %q, not %q", c.step, line, c.line)
+		}
+	}
+	for _, many := range []int{0, 1, 10922, 10923, 32000, 1 << 20} {
+		s := api.Step{Kind: api.StepForge, A: 1, Data: []byte(strings.Repeat("\u0080", many))}
+		if line := script.Line(r, s); line != "forge β \""+strings.Repeat(`\u{80}`, many)+"\"" {
+			t.Errorf("Line of %d characters: %q", many, begin(line))
+		}
+	}
+	// What no text says has none.
+	for _, s := range []api.Step{{}, {Kind: 13}, {Kind: -1}, {Kind: api.StepPoll, A: 2}, {Kind: api.StepPoll, A: -1}, {Kind: api.StepPoll, B: 1}, {Kind: api.StepTurn, A: -1}, {Kind: api.StepTurn, A: api.MaxNumber + 1}, {Kind: api.StepTurn, Data: []byte{0}}} {
+		if line := script.Line(r, s); line != "" {
+			t.Errorf("Line(%v): %q", s, line)
+		}
+	}
+	if line := script.Line(roster.Roster{}, api.Step{Kind: api.StepPoll}); line != "" {
+		t.Errorf("Line without a node: %q", line)
 	}
 }

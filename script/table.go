@@ -21,7 +21,7 @@ type part struct {
 	fits func(w api.Token) bool                   // whether such a word can stand there
 	read func(w api.Token, s *api.Step) api.Errno // puts what the word says into s
 	take func(s *api.Step) bool                   // whether a word says what s has; s has it no more then
-	word func(s api.Step) string                  // that word; it gives up, if it is too long
+	word func(s api.Step) string                  // that word, however long it is
 }
 
 // table has the shapes of all steps, among the nodes r.
@@ -97,13 +97,7 @@ func dataPart() part {
 			s.Data = nil
 			return true
 		},
-		word: func(s api.Step) string {
-			// Looked at ahead of Quote too, so that bytes of any number are not copied for it.
-			refuseIf(len(s.Data) > api.MaxText, api.ErrLong, 0)
-			lit, e := glyph.Quote(string(s.Data))
-			refuseIf(e != api.OK, e, 0)
-			return lit
-		},
+		word: func(s api.Step) string { return glyph.Quoted(string(s.Data)) },
 	}
 }
 

@@ -26,11 +26,19 @@ func (x writer) place(kind int) int {
 	return slices.IndexFunc(x.shapes, func(y shape) bool { return y.kind == kind })
 }
 
+// says tells whether some words say just this step.
+func (x writer) says(s api.Step) bool {
+	at := x.place(s.Kind)
+	return at >= 0 && x.shapes[at].says(s)
+}
+
+// words tells the words of a step that they say.
+func (x writer) words(s api.Step) []string { return x.shapes[x.place(s.Kind)].words(s) }
+
 // check gives up, if no text says just these steps.
 func (x writer) check(steps []api.Step) {
 	for _, s := range steps {
-		at := x.place(s.Kind)
-		refuseIf(at < 0 || !x.shapes[at].says(s), api.ErrScript, 0)
+		refuseIf(!x.says(s), api.ErrScript, 0)
 	}
 }
 
@@ -53,7 +61,7 @@ func (x writer) lines(r api.Rules, steps []api.Step) iter.Seq[[]string] {
 			return
 		}
 		for _, s := range steps {
-			if !yield(x.shapes[x.place(s.Kind)].words(s)) {
+			if !yield(x.words(s)) {
 				return
 			}
 		}
@@ -71,7 +79,13 @@ func (y shape) words(s api.Step) []string {
 
 // write puts a line of words behind a text; it gives up, if that is too long then.
 func write(out *strings.Builder, words ...string) {
-	out.WriteString(strings.Join(words, " "))
+	out.WriteString(join(words...))
 	out.WriteByte('\n')
 	refuseIf(out.Len() > api.MaxText, api.ErrLong, 0)
 }
+
+// join tells a line of words, without its end.
+func join(words ...string) string { return strings.Join(words, " ") }
+
+// hasTooMuch tells whether a step's bytes alone are more than a text may have.
+func hasTooMuch(s api.Step) bool { return len(s.Data) > api.MaxText }
